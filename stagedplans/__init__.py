@@ -1,0 +1,1 @@
+"""Stagedplans: opening a new version of a program in stages."""
