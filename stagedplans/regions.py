@@ -90,15 +90,7 @@ def nth_open(region, share, index):
     count = count_at(region, share)
     if not is_index(index, count):
         raise InvalidIndex()
-    low = 0
-    high = region[0] - 1
-    while low < high:
-        middle = (low + high) // 2
-        if open_before(region, count, middle + 1) > index:
-            high = middle
-        else:
-            low = middle + 1
-    return low
+    return users_ahead(region, count, index)
 
 
 def check_region(region):
@@ -166,3 +158,72 @@ def sum_of_quotients(many, divisor, slope, start):
         many, start = top // divisor, top % divisor
         divisor, slope = slope % divisor, divisor
     return total
+
+
+def users_ahead(region, count, index):
+    """Return the greatest number of first users of whom at most index have a rank below count.
+
+    The ranks of the users 0, 1, 2 .. go around a circle of as many places as there are users,
+    with each step a stride further. A step weighs plain, more by past if it passes the end of
+    the circle, and more by low if it begins below the bound; looked for are the most steps
+    that weigh at most index together. A round, from one passing of the end to the next one,
+    begins at a place below the stride, and the rounds one behind the other are the steps
+    around a circle of just these places. So the circles are gone down, as Euclid's divisions
+    go, and then up again.
+    """
+    size, factor, place, _ = region
+    stride = factor % size
+    bound, weights, rest = count, (0, 0, 1), index
+    circles = []
+    while stride > 0:
+        if 2 * stride > size:
+            # Seen in a mirror, the stride is short, and below the bound is not below it.
+            plain, past, low = weights
+            weights = (plain + past + low, -past, -low)
+            stride, place, bound = size - stride, size - 1 - place, size - bound
+        entry, ahead = place % stride, place // stride
+        # The steps ahead of the place make the first round a whole one.
+        rest = rest + weight_in_round(ahead, entry, stride, bound, weights)
+        circles.append((size, stride, bound, weights, entry, ahead))
+        weights = weights_of_rounds(size, stride, bound, weights)
+        size, stride, place, bound = stride, -size % stride, entry, bound % stride
+    steps, rest = divmod(rest, weights[0] + (weights[2] if place < bound else 0))
+    for size, stride, bound, weights, entry, ahead in reversed(circles):
+        first = (entry - size * steps) % stride
+        more = most_in_round(rest, first, size, stride, bound, weights)
+        rest = rest - weight_in_round(more, first, stride, bound, weights)
+        steps = (size * steps + first - entry) // stride + more - ahead
+    return steps
+
+
+def low_steps(first, stride, bound):
+    """Return how many steps of a round that begins at a place begin below a bound."""
+    return (bound - first + stride - 1) // stride
+
+
+def weight_in_round(steps, first, stride, bound, weights):
+    """Return the weight of steps of a round that begins at a place, without its last step."""
+    plain, _, low = weights
+    return plain * steps + low * min(steps, low_steps(first, stride, bound))
+
+
+def weights_of_rounds(size, stride, bound, weights):
+    """Return the weights of whole rounds, as steps around the smaller circle."""
+    plain, past, low = weights
+    # Each round has size // stride steps, and one more if it begins below size % stride:
+    # just then its step around the smaller circle does not go past the end of that one.
+    longer = plain if size % stride > 0 else 0
+    return (plain * (size // stride) + past + low * (bound // stride) + longer, -longer, low)
+
+
+def most_in_round(rest, first, size, stride, bound, weights):
+    """Return the most steps of a round that begins at a place that weigh at most rest."""
+    plain, _, low = weights
+    # The last step ends the round, which weighs more than rest.
+    most = (size - first - 1) // stride
+    lows = low_steps(first, stride, bound)
+    if plain + low > 0 and rest // (plain + low) < lows:
+        return min(most, rest // (plain + low))
+    if plain > 0:
+        return min(most, lows + (rest - lows * (plain + low)) // plain)
+    return most

@@ -1,6 +1,7 @@
 """Points [1] to [5]: regions and their users."""
 
 import math
+import random
 import unittest
 
 from stagedplans.errors import InvalidIndex, InvalidRank, InvalidRegion, InvalidShare, InvalidUser
@@ -41,6 +42,16 @@ def count_of(region, share):
 
 def users_open(region, share):
     return [user for user, rank in enumerate(ranks(region)) if rank < count_of(region, share)]
+
+
+def some_region(source, most):
+    """Return a region of at most so many users, also with a factor near 0 or near the size."""
+    size = source.randint(most // 10, most - 1)
+    near = source.randint(1, min(size, 40))
+    factor = source.choice((source.randint(1, size), source.randint(1, size), near, size + 1 - near))
+    while math.gcd(factor, size) != 1:
+        factor = factor - 1
+    return (size, factor, source.randrange(size), source.choice((0, 0, size // 7, source.randint(0, size))))
 
 
 class Examples(Case):
@@ -225,6 +236,45 @@ class UsersInOrder(Case):
                         self.assertTrue(0 <= user < size)
                         self.assertLess(rank_of(region, user), count)
                         self.assertEqual(index + 1, count_open(region, share, 0, user))
+
+    def test_nth_open_in_all_small_regions(self):
+        for size in range(1, 15):
+            for factor in range(1, size + 1):
+                if math.gcd(factor, size) != 1:
+                    continue
+                for shift in range(size):
+                    for held in range(size + 1):
+                        region = (size, factor, shift, held)
+                        users = users_open(region, 1000)
+                        self.assertEqual(users, [nth_open(region, 1000, index) for index in range(len(users))])
+
+    def test_nth_open_in_regions_of_any_size(self):
+        source = random.Random(11)
+        for digits in (2, 4, 8, 15, 22, 30):
+            for _ in range(60):
+                region = some_region(source, 10 ** digits)
+                share = source.choice((1, 3, 250, 500, 998, 999, 1000))
+                count = count_of(region, share)
+                for index in (0, count // 2, count - 1, source.randrange(count or 1)):
+                    if not 0 <= index < count:
+                        continue
+                    with self.subTest(region=region, share=share, index=index):
+                        user = nth_open(region, share, index)
+                        self.assertTrue(0 <= user < region[0])
+                        self.assertLess(rank_of(region, user), count)
+                        self.assertEqual(index + 1, count_open(region, share, 0, user))
+
+    def test_nth_open_of_the_issue(self):
+        region = (999999999999999999999999999989, 618033988749894848204586834365, 3, 0)
+        self.assertEqual(499999999999999999999999999994, nth_open(region, 1000, 499999999999999999999999999994))
+
+    def test_many_calls_of_nth_open_in_great_regions(self):
+        # A search that sums anew for each step takes more than ten times as long.
+        region = (999999999999999999999999999989, 618033988749894848204586834365, 3, 0)
+        count = count_of(region, 777)
+        with at_once(8):
+            users = [nth_open(region, 777, count * part // 5000) for part in range(5000)]
+        self.assertEqual(sorted(set(users)), users)
 
     def test_first_and_last_index(self):
         region = (BIG, 1, 0, 10 ** 29)
