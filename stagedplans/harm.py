@@ -1,9 +1,10 @@
 """The harm of a history, and the users that it hurts."""
 
+from stagedplans.periods import counts_in, first_state, is_open_in, next_state
 from stagedplans.plans import check_plan
 from stagedplans.regions import check_user
-from stagedplans.signals import BAD
-from stagedplans.states import check_letters, check_region_index, counts_in, first_state, is_open_in, next_state
+from stagedplans.signals import ALL_GRADES, BAD
+from stagedplans.states import check_letters, check_region_index
 
 
 def harm_of(plan, letters):
@@ -48,14 +49,23 @@ def periods_of(plan, letters):
 
 def period_harm(plan, state, letter):
     """Return the harm of a period that begins in a state."""
+    return sum([cost for cost, grade in zip(costs_in(plan, state), letter) if grade == BAD])
+
+
+def harms_in(plan, state):
+    """Return the list of the harm of a period that begins in a state, by its letter, ascending."""
+    harms = [0]
+    for cost in costs_in(plan, state):
+        harms = [harm + cost if grade == BAD else harm for harm in harms for grade in ALL_GRADES]
+    return harms
+
+
+def costs_in(plan, state):
+    """Return the list of the harm that each signal does in a state if it is bad."""
     if state[0] != "open":
-        return 0
+        return [0 for _ in plan[1]]
     due = counts_in(plan, state)
-    return sum([
-        price * due[region]
-        for (region, _, _, price), grade in zip(plan[1], letter)
-        if grade == BAD
-    ])
+    return [price * due[region] for region, _, _, price in plan[1]]
 
 
 def period_hurt(plan, state, letter):

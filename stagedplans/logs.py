@@ -2,9 +2,9 @@
 
 from stagedplans.checks import are_integers, is_tuple_of
 from stagedplans.errors import InvalidRows
+from stagedplans.periods import counts_in, first_state, next_state
 from stagedplans.plans import check_plan
 from stagedplans.signals import is_letter
-from stagedplans.states import counts_in, first_state, next_state
 
 
 def log_fault(plan, rows):

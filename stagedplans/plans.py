@@ -1,7 +1,7 @@
 """Plans: their form, the first fault of what is none, and the letters for them."""
 
 from stagedplans.checks import are_integers, is_filled_tuple, is_from, is_index, is_tuple_of
-from stagedplans.errors import InvalidReadings, NotAPlan
+from stagedplans.errors import InvalidReadings, NotAPlan, OtherShape
 from stagedplans.regions import is_region, is_share
 from stagedplans.signals import all_letters, grade_at, is_grade, is_reading, is_signal
 
@@ -73,6 +73,12 @@ def check_plan(plan):
     """Raise an error for what is no plan."""
     if not is_plan(plan):
         raise NotAPlan()
+
+
+def check_alike_in_numbers(one, other):
+    """Raise an error for plans whose numbers of regions or of signals differ."""
+    if len(one[0]) != len(other[0]) or len(one[1]) != len(other[1]):
+        raise OtherShape()
 
 
 def are_readings(value, number):

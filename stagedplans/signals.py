@@ -6,6 +6,7 @@ from stagedplans.errors import InvalidLeast, InvalidLimit, InvalidReading, Inval
 NONE = 0
 GOOD = 1
 BAD = 2
+ALL_GRADES = (NONE, GOOD, BAD)
 FULL_LIMIT = 1000
 
 
@@ -112,5 +113,32 @@ def all_letters(number):
     """Return the ascending list of all letters for a number of signals."""
     letters = [()]
     for _ in range(number):
-        letters = [(*letter, grade) for letter in letters for grade in range(NONE, BAD + 1)]
+        letters = [(*letter, grade) for letter in letters for grade in ALL_GRADES]
     return letters
+
+
+def letter_index(letter):
+    """Return the index of a letter in the ascending list of all letters."""
+    index = 0
+    for grade in letter:
+        index = index * len(ALL_GRADES) + grade
+    return index
+
+
+def is_partial(value, number):
+    """Tell whether a value is a partial letter for a number of signals."""
+    return is_tuple_of(value, number) and all([item is None or is_grade(item) for item in value])
+
+
+def fits(letter, partial):
+    """Tell whether a letter has the grades of a partial letter that are known."""
+    return all([known is None or grade == known for grade, known in zip(letter, partial)])
+
+
+def fitting_indexes(partial):
+    """Return the ascending list of the indexes of the letters that fit a partial letter."""
+    indexes = [0]
+    for known in partial:
+        grades = ALL_GRADES if known is None else (known,)
+        indexes = [index * len(ALL_GRADES) + grade for index in indexes for grade in grades]
+    return indexes

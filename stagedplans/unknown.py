@@ -1,0 +1,165 @@
+"""Unknown readings: what the histories that fit partial letters can lead to.
+
+Within this file a state stands as its index among those behind all histories, and a letter as
+its index among all letters. The fits are the list, by periods, of the ascending lists of the
+letters that fit the partial letter of the period.
+"""
+
+from stagedplans.errors import InvalidPartials
+from stagedplans.harm import harms_in
+from stagedplans.periods import counts_in, is_open_in, state_graph
+from stagedplans.plans import check_plan
+from stagedplans.regions import check_user
+from stagedplans.signals import all_letters, fitting_indexes, is_partial
+from stagedplans.states import check_region_index, check_word
+
+LEAST = -1
+GREATEST = 1
+
+
+def possible_states(plan, partials):
+    """Return the ascending list of the states behind all histories that fit."""
+    check_both(plan, partials)
+    return sorted(states_left(plan, partials))
+
+
+def count_bounds(plan, partials):
+    """Return the list of the tuples (least, greatest) of the open counts of each region."""
+    check_both(plan, partials)
+    rows = [counts_in(plan, state) for state in states_left(plan, partials)]
+    columns = [[row[region] for row in rows] for region in range(len(plan[0]))]
+    return [(min(column), max(column)) for column in columns]
+
+
+def surely_open(plan, partials, region, user):
+    """Tell whether a region is open to a user in all states behind the histories that fit."""
+    check_both(plan, partials)
+    check_region_index(plan, region)
+    check_user(user, plan[0][region])
+    return all([is_open_in(plan, state, region, user) for state in states_left(plan, partials)])
+
+
+def harm_bounds(plan, partials):
+    """Return the tuple (least, greatest) of the harm of all histories that fit."""
+    check_both(plan, partials)
+    listed, followers = state_graph(plan)
+    fits = fits_of(partials)
+    bounds = []
+    for side in (LEAST, GREATEST):
+        ahead = worth_ahead(followers, harms_by_side(plan, listed, side), fits, [0 for _ in listed])
+        bounds.append(side * ahead[0][0])
+    return tuple(bounds)
+
+
+def telling_periods(plan, partials):
+    """Return the ascending list of the indexes of the periods whose unknown grades can count."""
+    check_both(plan, partials)
+    listed, followers = state_graph(plan)
+    fits = fits_of(partials)
+    rows = rows_behind(followers, fits)
+    # For each two states, whether the same further letters can lead to different ones.
+    apart = [[one != other for other in range(len(listed))] for one in range(len(listed))]
+    telling = []
+    for at in reversed(range(len(fits))):
+        if any([can_part(followers[state], fits[at], apart) for state in rows[at]]):
+            telling.append(at)
+        apart = [
+            [any([apart[one[letter]][other[letter]] for letter in fits[at]]) for other in followers]
+            for one in followers
+        ]
+    return telling[::-1]
+
+
+def bound_histories(plan, partials):
+    """Return the least histories that fit with the least and with the greatest harm."""
+    check_both(plan, partials)
+    listed, followers = state_graph(plan)
+    fits = fits_of(partials)
+    histories = []
+    for side in (LEAST, GREATEST):
+        gains = harms_by_side(plan, listed, side)
+        ahead = worth_ahead(followers, gains, fits, [0 for _ in listed])
+        histories.append(first_with_all(plan, followers, gains, fits, ahead))
+    return tuple(histories)
+
+
+def filling_to(plan, partials, word):
+    """Return the least history that fits and leads to a state with a word, or None."""
+    check_both(plan, partials)
+    check_word(word)
+    listed, followers = state_graph(plan)
+    fits = fits_of(partials)
+    none = [[0 for _ in row] for row in followers]
+    ahead = worth_ahead(followers, none, fits, [1 if state[0] == word else 0 for state in listed])
+    if ahead[0][0] == 0:
+        return None
+    return first_with_all(plan, followers, none, fits, ahead)
+
+
+def check_both(plan, partials):
+    """Raise an error for what is no plan, or no list of partial letters for its signals."""
+    check_plan(plan)
+    if not isinstance(partials, list) or not all([is_partial(item, len(plan[1])) for item in partials]):
+        raise InvalidPartials()
+
+
+def fits_of(partials):
+    """Return the list of the lists of the letters that fit each of the partial letters."""
+    return [fitting_indexes(partial) for partial in partials]
+
+
+def rows_behind(followers, fits):
+    """Return the list of the lists of the states behind the beginnings of histories that fit."""
+    rows = [[0]]
+    for fitting in fits:
+        rows.append(sorted(set([followers[state][letter] for state in rows[-1] for letter in fitting])))
+    return rows
+
+
+def states_left(plan, partials):
+    """Return the list of the states behind all histories that fit."""
+    listed, followers = state_graph(plan)
+    return [listed[at] for at in rows_behind(followers, fits_of(partials))[-1]]
+
+
+def harms_by_side(plan, listed, side):
+    """Return the harm by states and letters, with another sign if the least is looked for."""
+    return [[side * harm for harm in harms_in(plan, state)] for state in listed]
+
+
+def can_part(behind, fitting, apart):
+    """Tell whether two of the letters that fit lead from a state to states that stay apart."""
+    ends = sorted(set([behind[letter] for letter in fitting]))
+    return any([apart[one][other] for one in ends for other in ends])
+
+
+def worth_ahead(followers, gains, fits, ends):
+    """Return, by periods and states, the most that the letters from a period on can gain.
+
+    The ends are what each state is worth at the end.
+    """
+    ahead = [ends]
+    for fitting in reversed(fits):
+        later = ahead[-1]
+        ahead.append([
+            max([gain[letter] + later[behind[letter]] for letter in fitting])
+            for gain, behind in zip(gains, followers)
+        ])
+    return ahead[::-1]
+
+
+def first_with_all(plan, followers, gains, fits, ahead):
+    """Return the least history that fits and gains all that is ahead."""
+    letters = all_letters(len(plan[1]))
+    state = 0
+    history = []
+    for at, fitting in enumerate(fits):
+        due = ahead[at][state]
+        best = [
+            letter
+            for letter in fitting
+            if gains[state][letter] + ahead[at + 1][followers[state][letter]] == due
+        ]
+        history.append(letters[best[0]])
+        state = followers[state][best[0]]
+    return history
