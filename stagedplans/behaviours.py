@@ -100,4 +100,4 @@ def turns_of(behaviour, many):
         nodes[target] = True
         for letter in fitting_indexes(partial):
             found.setdefault((node, letter), []).append(target)
-    return {node: [sorted(set(found.get((node, letter), []))) for letter in range(many)] for node in nodes}
+    return {start: [sorted(set(found.get((start, at), []))) for at in range(many)] for start in nodes}

@@ -49,7 +49,8 @@ def table_fault(plans, table, behaviour, rate):
     With a rate (top, bottom), a period gains bottom times its harm or gap, less top.
     """
     numbers = {row[:-1]: row[-1] for row in table}
-    if (*[first_state(plan) for plan in plans], 0) not in numbers:
+    first = tuple([first_state(plan) for plan in plans])
+    if (*first, 0) not in numbers:
         return ("begin", None)
     letters = all_letters(len(plans[0][1]))
     turns = turns_of(behaviour, len(letters))
