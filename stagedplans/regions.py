@@ -219,11 +219,11 @@ def weights_of_rounds(size, stride, bound, weights):
 def most_in_round(rest, first, size, stride, bound, weights):
     """Return the most steps of a round that begins at a place that weigh at most rest."""
     plain, _, low = weights
-    # The last step ends the round, which weighs more than rest.
-    most = (size - first - 1) // stride
     lows = low_steps(first, stride, bound)
     if plain + low > 0 and rest // (plain + low) < lows:
-        return min(most, rest // (plain + low))
+        return rest // (plain + low)
+    # The last step ends the round, which weighs more than rest.
+    most = (size - first - 1) // stride
     if plain > 0:
         return min(most, lows + (rest - lows * (plain + low)) // plain)
     return most

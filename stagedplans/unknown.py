@@ -44,9 +44,10 @@ def harm_bounds(plan, partials):
     check_both(plan, partials)
     listed, followers = state_graph(plan)
     fits = fits_of(partials)
+    rows = rows_behind(followers, fits)
     bounds = []
     for side in (LEAST, GREATEST):
-        ahead = worth_ahead(followers, harms_by_side(plan, listed, side), fits, [0 for _ in listed])
+        ahead = worth_ahead(rows, fits, followers, harms_by_side(plan, listed, side), [0 for _ in listed])
         bounds.append(side * ahead[0][0])
     return tuple(bounds)
 
@@ -54,19 +55,20 @@ def harm_bounds(plan, partials):
 def telling_periods(plan, partials):
     """Return the ascending list of the indexes of the periods whose unknown grades can count."""
     check_both(plan, partials)
-    listed, followers = state_graph(plan)
+    _, followers = state_graph(plan)
     fits = fits_of(partials)
     rows = rows_behind(followers, fits)
-    # For each two states, whether the same further letters can lead to different ones.
-    apart = [[one != other for other in range(len(listed))] for one in range(len(listed))]
+    # For each two states of a row, whether the same further letters can lead to different ones.
+    apart = {one: {other: one != other for other in rows[-1]} for one in rows[-1]}
     telling = []
     for at in reversed(range(len(fits))):
-        if any([can_part(followers[state], fits[at], apart) for state in rows[at]]):
+        row, fitting = rows[at], fits[at]
+        if any([can_part(followers[state], fitting, apart) for state in row]):
             telling.append(at)
-        apart = [
-            [any([apart[one[letter]][other[letter]] for letter in fits[at]]) for other in followers]
-            for one in followers
-        ]
+        apart = {
+            one: {other: can_stay_apart(followers[one], followers[other], fitting, apart) for other in row}
+            for one in row
+        }
     return telling[::-1]
 
 
@@ -75,11 +77,12 @@ def bound_histories(plan, partials):
     check_both(plan, partials)
     listed, followers = state_graph(plan)
     fits = fits_of(partials)
+    rows = rows_behind(followers, fits)
     histories = []
     for side in (LEAST, GREATEST):
         gains = harms_by_side(plan, listed, side)
-        ahead = worth_ahead(followers, gains, fits, [0 for _ in listed])
-        histories.append(first_with_all(plan, followers, gains, fits, ahead))
+        ahead = worth_ahead(rows, fits, followers, gains, [0 for _ in listed])
+        histories.append(first_with_all(plan, fits, followers, gains, ahead))
     return tuple(histories)
 
 
@@ -89,11 +92,12 @@ def filling_to(plan, partials, word):
     check_word(word)
     listed, followers = state_graph(plan)
     fits = fits_of(partials)
+    rows = rows_behind(followers, fits)
     none = [[0 for _ in row] for row in followers]
-    ahead = worth_ahead(followers, none, fits, [1 if state[0] == word else 0 for state in listed])
+    ahead = worth_ahead(rows, fits, followers, none, [1 if state[0] == word else 0 for state in listed])
     if ahead[0][0] == 0:
         return None
-    return first_with_all(plan, followers, none, fits, ahead)
+    return first_with_all(plan, fits, followers, none, ahead)
 
 
 def check_both(plan, partials):
@@ -133,22 +137,31 @@ def can_part(behind, fitting, apart):
     return any([apart[one][other] for one in ends for other in ends])
 
 
-def worth_ahead(followers, gains, fits, ends):
-    """Return, by periods and states, the most that the letters from a period on can gain.
+def can_stay_apart(behind, other_behind, fitting, apart):
+    """Tell whether one of the letters that fit leads from two states to states that stay apart."""
+    for letter in fitting:
+        if apart[behind[letter]][other_behind[letter]]:
+            return True
+    return False
 
-    The ends are what each state is worth at the end.
+
+def worth_ahead(rows, fits, followers, gains, ends):
+    """Return the list of the dicts of the most that the letters from each period on can gain.
+
+    The rows are the states at the beginning of each period, and at the end, where each state
+    is worth what the ends tell.
     """
-    ahead = [ends]
-    for fitting in reversed(fits):
-        later = ahead[-1]
-        ahead.append([
-            max([gain[letter] + later[behind[letter]] for letter in fitting])
-            for gain, behind in zip(gains, followers)
-        ])
+    ahead = [{state: ends[state] for state in rows[-1]}]
+    for at in reversed(range(len(fits))):
+        later, fitting = ahead[-1], fits[at]
+        ahead.append({
+            state: max([gains[state][letter] + later[followers[state][letter]] for letter in fitting])
+            for state in rows[at]
+        })
     return ahead[::-1]
 
 
-def first_with_all(plan, followers, gains, fits, ahead):
+def first_with_all(plan, fits, followers, gains, ahead):
     """Return the least history that fits and gains all that is ahead."""
     letters = all_letters(len(plan[1]))
     state = 0

@@ -136,6 +136,19 @@ class Gaps(Case):
         told = (3, ((0, (0, 0), 1), (1, (2, 0), 2), (0, (2, 1), 2), (0, (2, 2), 2)))
         self.assertEqual([(2, 1)], gap_history(one, other, told))
 
+    def test_walks_that_share_a_history(self):
+        told = (4, ((0, (2,), 1), (0, (2,), 2), (1, (1,), 3), (2, (0,), 3), (3, (2,), 3)))
+        one = one_signal(((500,), 3, (), ()))
+        other = one_signal(((250,), 3, (), ()))
+        self.assertEqual([4, [(2,), (0,), (2,)]], [worst_gap(one, other, told), gap_history(one, other, told)])
+
+    def test_ring_of_all_triples_that_adds_as_little_as_can_be(self):
+        other = changed(ENDLESS, (2, 0, 0), (400,))
+        for many in (1, 2, 3):
+            told = (many, ((0, (2,), 1 % many),) + tuple((at, (0,), (at + 1) % many) for at in range(1, many)))
+            self.assertEqual([None, None], [worst_gap(ENDLESS, other, told), gap_history(ENDLESS, other, told)])
+            self.assertEqual([0, []], [worst_gap(other, ENDLESS, told), gap_history(other, ENDLESS, told)])
+
     def test_against_slow_searches(self):
         kinds = {}
         for one, other, told in small_pairs(80, 20) + small_pairs(81, 6, signals=2) + endless_pairs(83, 25):

@@ -151,6 +151,8 @@ class Slowest(Case):
         told = (4, ((0, (1,), 1), (0, (1,), 2), (1, (0,), 3), (2, (2,), 3), (3, (2,), 0)))
         plan = one_signal(((500,), 4, (), ()))
         self.assertEqual([(1,), (0,), (2,), (1,)], slowest_history(plan, told))
+        told = (4, ((0, (1,), 1), (0, (1,), 2), (1, (2,), 3), (2, (0,), 3), (3, (2,), 0)))
+        self.assertEqual([(1,), (0,), (2,), (1,)], slowest_history(plan, told))
         told = (4, ((0, (0,), 1), (0, (1,), 2), (0, (0,), 3), (2, (2,), 3), (3, (2,), 1)))
         self.assertEqual([(1,), (2,), (2,)], slowest_history(plan, told))
 

@@ -78,6 +78,20 @@ class GreatestHarm(Case):
         self.assertIsNone(harm_table(ENDLESS))
         self.assertIsNone(greatest_harm(R))
 
+    def test_ring_of_all_pairs_that_adds_as_little_as_can_be(self):
+        plan = changed(ENDLESS, (2, 0, 0), (100,))
+        for many in (1, 2, 3, 6):
+            told = (many, ((0, (2,), 1 % many),) + tuple((at, (0,), (at + 1) % many) for at in range(1, many)))
+            self.assertEqual([None, None, None], [greatest_harm(plan, told), harm_history(plan, told), harm_table(plan, told)])
+            self.assertIs(True, grows_always((plan,), *harm_ring(plan, told), told))
+
+    def test_walks_that_share_a_history(self):
+        # One letter leads to two nodes, with as much harm ahead; the later node may read the lesser letter.
+        told = (4, ((0, (2,), 1), (0, (2,), 2), (1, (1,), 3), (2, (0,), 3), (3, (2,), 3)))
+        plan = one_signal(((500,), 3, (), ()))
+        self.assertEqual([(2,), (0,), (2,)], harm_history(plan, told))
+        self.assertEqual(8, greatest_harm(plan, told))
+
     def test_price_of_nothing(self):
         free = changed(ENDLESS, (1, 0, 3), 0)
         self.assertEqual([0, [], None], [greatest_harm(free), harm_history(free), harm_ring(free)])
