@@ -1,6 +1,6 @@
 """The harm of a history, and the users that it hurts."""
 
-from stagedplans.periods import counts_in, first_state, is_open_in, next_state
+from stagedplans.periods import counts_in, first_state, frame_of, is_open_in, states_along
 from stagedplans.plans import check_plan
 from stagedplans.regions import check_user
 from stagedplans.signals import ALL_GRADES, BAD
@@ -11,7 +11,7 @@ def harm_of(plan, letters):
     """Return the sum of the harm of all periods of a history."""
     check_plan(plan)
     check_letters(plan, letters)
-    return sum([period_harm(plan, state, letter) for state, letter in periods_of(plan, letters)])
+    return harm_along(plan, states_along(plan, first_state(plan), letters), letters)
 
 
 def hurt_of(plan, letters):
@@ -19,9 +19,13 @@ def hurt_of(plan, letters):
     check_plan(plan)
     check_letters(plan, letters)
     hurt = [0 for _ in plan[0]]
-    for state, letter in periods_of(plan, letters):
-        # The users of a smaller count are among those of a greater one.
-        hurt = [max(one, other) for one, other in zip(hurt, period_hurt(plan, state, letter))]
+    known = {}
+    for state, letter in zip(states_along(plan, first_state(plan), letters), letters):
+        # Where the stage and the dropped regions are the same, a letter hurts the same users again.
+        moment = (frame_of(state), letter)
+        if moment not in known:
+            known[moment] = True
+            hurt = more_hurt(hurt, period_hurt(plan, state, letter))
     return hurt
 
 
@@ -31,25 +35,32 @@ def user_hurt(plan, letters, region, user):
     check_letters(plan, letters)
     check_region_index(plan, region)
     check_user(user, plan[0][region])
-    for at, (state, letter) in enumerate(periods_of(plan, letters)):
+    for at, (state, letter) in enumerate(zip(states_along(plan, first_state(plan), letters), letters)):
         if state[0] == "open" and region in bad_regions(plan, letter) and is_open_in(plan, state, region, user):
             return at
     return None
 
 
-def periods_of(plan, letters):
-    """Return the list of the tuples (state, letter) of the periods of a history."""
-    state = first_state(plan)
-    periods = []
-    for letter in letters:
-        periods.append((state, letter))
-        state = next_state(plan, state, letter)
-    return periods
+def harm_along(plan, along, letters):
+    """Return the sum of the harm of the periods that begin in some states, by their letters."""
+    known = {}
+    total = 0
+    for state, letter in zip(along, letters):
+        if state[0] != "open":
+            # What has ended stays so, and does no harm any more.
+            return total
+        frame = (state[1], state[4])
+        if frame not in known:
+            known[frame] = costs_in(plan, state)
+        for cost, grade in zip(known[frame], letter):
+            if grade == BAD:
+                total = total + cost
+    return total
 
 
 def period_harm(plan, state, letter):
     """Return the harm of a period that begins in a state."""
-    return sum([cost for cost, grade in zip(costs_in(plan, state), letter) if grade == BAD])
+    return harm_along(plan, [state], [letter])
 
 
 def harms_in(plan, state):
@@ -58,6 +69,16 @@ def harms_in(plan, state):
     for cost in costs_in(plan, state):
         harms = [harm + cost if grade == BAD else harm for harm in harms for grade in ALL_GRADES]
     return harms
+
+
+def harms_of_states(plan, listed):
+    """Return the list, by states, of the lists of the harm of a period, by its letter, ascending."""
+    known = {}
+    for state in listed:
+        frame = frame_of(state)
+        if frame not in known:
+            known[frame] = harms_in(plan, state)
+    return [known[frame_of(state)] for state in listed]
 
 
 def costs_in(plan, state):
@@ -74,6 +95,12 @@ def period_hurt(plan, state, letter):
         return [0 for _ in plan[0]]
     bad = bad_regions(plan, letter)
     return [count if region in bad else 0 for region, count in enumerate(counts_in(plan, state))]
+
+
+def more_hurt(hurt, other):
+    """Return the list, by regions, of how many users are hurt in two periods together."""
+    # The users of a smaller count are among those of a greater one.
+    return [max(many, others) for many, others in zip(hurt, other)]
 
 
 def bad_regions(plan, letter):

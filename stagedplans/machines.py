@@ -3,7 +3,8 @@
 from stagedplans.behaviours import check_behaviour, turns_of
 from stagedplans.checks import is_index, is_integer, is_tuple_of, is_within
 from stagedplans.errors import InvalidLetters, InvalidMachine, InvalidNumber, InvalidPairs
-from stagedplans.periods import counts_in, first_state, next_state, state_graph
+from stagedplans.likeness import are_like, output_of, outputs_of
+from stagedplans.periods import first_state, next_state, state_graph
 from stagedplans.plans import check_alike_in_numbers, check_plan
 from stagedplans.searches import first_history
 from stagedplans.signals import all_letters, are_letters, letter_index
@@ -17,7 +18,7 @@ def machine(plan):
     """Return the list with the fewest tuples (output, followers) that has the outputs of a plan."""
     check_plan(plan)
     listed, followers = state_graph(plan)
-    outputs = [output_of(plan, state) for state in listed]
+    outputs = outputs_of(plan, listed)
     kinds = kinds_of(outputs, followers)
     entries = []
     for kind, output, behind in zip(kinds, outputs, followers):
@@ -44,7 +45,7 @@ def machine_output(number, machine, letters):
 def are_alike(one, other):
     """Tell whether two plans are alike."""
     check_plans(one, other)
-    return like_pairs(one, other) is not None
+    return are_like(one, other)
 
 
 def unlike_history(one, other, behaviour=None):
@@ -54,8 +55,7 @@ def unlike_history(one, other, behaviour=None):
     ones, one_followers = state_graph(one)
     others, other_followers = state_graph(other)
     twins, followers = twin_graph(one_followers, other_followers)
-    outputs = [output_of(one, state) for state in ones]
-    other_outputs = [output_of(other, state) for state in others]
+    outputs, other_outputs = outputs_of(one, ones), outputs_of(other, others)
     letters = all_letters(len(one[1]))
     differ = [outputs[at] != other_outputs[other_at] for at, other_at in twins]
     found = first_history(followers, turns_of(behaviour, len(letters)), differ)
@@ -120,11 +120,6 @@ def is_output(value):
     return all([is_integer(count) for count in value[1]])
 
 
-def output_of(plan, state):
-    """Return the output of a state."""
-    return (state[0], tuple(counts_in(plan, state)))
-
-
 def kinds_of(outputs, followers):
     """Return the list of the kinds of states, numbered as they first appear.
 
@@ -155,8 +150,7 @@ def like_pairs(one, other):
     ones, one_followers = state_graph(one)
     others, other_followers = state_graph(other)
     twins, _ = twin_graph(one_followers, other_followers)
-    outputs = [output_of(one, state) for state in ones]
-    other_outputs = [output_of(other, state) for state in others]
+    outputs, other_outputs = outputs_of(one, ones), outputs_of(other, others)
     for at, other_at in twins:
         if outputs[at] != other_outputs[other_at]:
             return None

@@ -81,6 +81,12 @@ def check_alike_in_numbers(one, other):
         raise OtherShape()
 
 
+def check_same_shape(one, other):
+    """Raise an error for plans whose regions or signals are not equal."""
+    if one[0] != other[0] or one[1] != other[1]:
+        raise OtherShape()
+
+
 def are_readings(value, number):
     """Tell whether any value is a list of so many readings."""
     if not isinstance(value, list) or len(value) != number:

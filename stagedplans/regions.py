@@ -123,6 +123,15 @@ def count_at(region, share):
     return (size - held) * share // FULL_SHARE
 
 
+def greatest_share_to(region, count):
+    """Return the greatest share with an open count that is not above a number from 0 on."""
+    size, _, _, held = region
+    if size == held:
+        return FULL_SHARE
+    # The count of a share s is above the number from (size - held) * s >= FULL_SHARE * (count + 1) on.
+    return min(FULL_SHARE, (FULL_SHARE * (count + 1) - 1) // (size - held))
+
+
 def inverse_of(factor, size):
     """Return the number below size whose product with factor leaves 1, as Euclid finds it."""
     old, new = size, factor % size
@@ -188,7 +197,7 @@ def users_ahead(region, count, index):
         weights = weights_of_rounds(size, stride, bound, weights)
         size, stride, place, bound = stride, -size % stride, entry, bound % stride
     steps, rest = divmod(rest, weights[0] + (weights[2] if place < bound else 0))
-    for size, stride, bound, weights, entry, ahead in reversed(circles):
+    for size, stride, bound, weights, entry, ahead in circles[::-1]:
         first = (entry - size * steps) % stride
         more = most_in_round(rest, first, size, stride, bound, weights)
         rest = rest - weight_in_round(more, first, stride, bound, weights)

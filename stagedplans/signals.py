@@ -1,6 +1,6 @@
 """Signals, their readings and grades, and letters."""
 
-from stagedplans.checks import are_integers, is_from, is_index, is_tuple_of, is_within
+from stagedplans.checks import are_integers, is_from, is_index, is_within
 from stagedplans.errors import InvalidLeast, InvalidLimit, InvalidReading, InvalidSpan
 
 NONE = 0
@@ -86,12 +86,20 @@ def is_grade(value):
 
 def is_letter(value, number):
     """Tell whether any value is a letter for a number of signals."""
-    return is_tuple_of(value, number) and all([is_grade(item) for item in value])
+    return are_letters([value], number)
 
 
 def are_letters(value, number):
     """Tell whether any value is a list of letters for a number of signals."""
-    return isinstance(value, list) and all([is_letter(item, number) for item in value])
+    if not isinstance(value, list):
+        return False
+    for letter in value:
+        if not isinstance(letter, tuple) or len(letter) != number:
+            return False
+        for grade in letter:
+            if not isinstance(grade, int) or not NONE <= grade <= BAD or grade is True or grade is False:
+                return False
+    return True
 
 
 def is_bad(limit, uses, faults):
@@ -127,7 +135,14 @@ def letter_index(letter):
 
 def is_partial(value, number):
     """Tell whether a value is a partial letter for a number of signals."""
-    return is_tuple_of(value, number) and all([item is None or is_grade(item) for item in value])
+    if not isinstance(value, tuple) or len(value) != number:
+        return False
+    for grade in value:
+        if grade is None:
+            continue
+        if not isinstance(grade, int) or not NONE <= grade <= BAD or grade is True or grade is False:
+            return False
+    return True
 
 
 def fits(letter, partial):

@@ -6,7 +6,7 @@ letters that fit the partial letter of the period.
 """
 
 from stagedplans.errors import InvalidPartials
-from stagedplans.harm import harms_in
+from stagedplans.harm import harms_of_states
 from stagedplans.periods import counts_in, is_open_in, state_graph
 from stagedplans.plans import check_plan
 from stagedplans.regions import check_user
@@ -78,12 +78,12 @@ def bound_histories(plan, partials):
     listed, followers = state_graph(plan)
     fits = fits_of(partials)
     rows = rows_behind(followers, fits)
-    histories = []
+    found = []
     for side in (LEAST, GREATEST):
         gains = harms_by_side(plan, listed, side)
         ahead = worth_ahead(rows, fits, followers, gains, [0 for _ in listed])
-        histories.append(first_with_all(plan, fits, followers, gains, ahead))
-    return tuple(histories)
+        found.append(first_with_all(plan, fits, followers, gains, ahead))
+    return tuple(found)
 
 
 def filling_to(plan, partials, word):
@@ -128,7 +128,7 @@ def states_left(plan, partials):
 
 def harms_by_side(plan, listed, side):
     """Return the harm by states and letters, with another sign if the least is looked for."""
-    return [[side * harm for harm in harms_in(plan, state)] for state in listed]
+    return [[side * harm for harm in row] for row in harms_of_states(plan, listed)]
 
 
 def can_part(behind, fitting, apart):

@@ -11,7 +11,7 @@ follow; the ways lead to each pair from the first one on.
 """
 
 from stagedplans.behaviours import turns_of
-from stagedplans.harm import harms_in
+from stagedplans.harm import harms_of_states
 from stagedplans.periods import state_graph
 from stagedplans.searches import history_by
 from stagedplans.signals import all_letters
@@ -20,7 +20,7 @@ from stagedplans.signals import all_letters
 def plan_field(plan):
     """Return the field of the states of a plan, with the harm of each period as its gain."""
     listed, followers = state_graph(plan)
-    gains = [harms_in(plan, state) for state in listed]
+    gains = harms_of_states(plan, listed)
     return (all_letters(len(plan[1])), [(state,) for state in listed], followers, gains)
 
 
@@ -43,12 +43,13 @@ def twin_graph(one_followers, other_followers):
     followers = []
     while len(followers) < len(twins):
         at, other_at = twins[len(followers)]
-        behind = list(zip(one_followers[at], other_followers[other_at]))
-        for twin in behind:
-            if twin not in places:
-                places[twin] = len(twins)
+        row = []
+        for twin in zip(one_followers[at], other_followers[other_at]):
+            place = places.setdefault(twin, len(twins))
+            if place == len(twins):
                 twins.append(twin)
-        followers.append([places[twin] for twin in behind])
+            row.append(place)
+        followers.append(row)
     return twins, followers
 
 
@@ -62,13 +63,14 @@ def walk_graph(followers, turns):
         spot, node = pairs[len(targets)]
         row = []
         for letter, behind in enumerate(followers[spot]):
-            ends = [(behind, target) for target in turns[node][letter]]
-            for pair in ends:
-                if pair not in places:
-                    places[pair] = len(pairs)
-                    pairs.append(pair)
+            ends = []
+            for target in turns[node][letter]:
+                place = places.setdefault((behind, target), len(pairs))
+                if place == len(pairs):
+                    pairs.append((behind, target))
                     ways.append((len(targets), letter))
-            row.append([places[pair] for pair in ends])
+                ends.append(place)
+            row.append(ends)
         targets.append(row)
     return pairs, targets, ways
 
@@ -179,6 +181,15 @@ def first_with_worth(graph, gains, worth):
     return history
 
 
+def gain_from(followers, gains, spot, history):
+    """Return what a history of indexes of letters gains from a spot on."""
+    total = 0
+    for letter in history:
+        total = total + gains[spot][letter]
+        spot = followers[spot][letter]
+    return total
+
+
 def greatest_gain(field, behaviour):
     """Return the greatest gain of a possible history, or None if there is none."""
     graph = walk_graph(field[2], turns_of(behaviour, len(field[0])))
@@ -189,15 +200,18 @@ def greatest_gain(field, behaviour):
 def greatest_history(field, behaviour):
     """Return the first of the shortest possible histories with the greatest gain, or None."""
     letters, _, followers, gains = field
-    graph = walk_graph(followers, turns_of(behaviour, len(letters)))
+    history = first_greatest(walk_graph(followers, turns_of(behaviour, len(letters))), gains)
+    return None if history is None else [letters[letter] for letter in history]
+
+
+def first_greatest(graph, gains):
+    """Return the indexes of the letters of the first of the shortest histories that gain most, or None."""
     # If any history has the greatest gain, one with fewer periods than there are pairs has it,
     # and a ring need not have more. So with gains more times as great than there are pairs,
     # a period less decides only where gains are equal.
     finer = lessened(gains, (1, len(graph[0]) + 1))
     worth, rings = farthest(links_of(graph, finer))
-    if len(rings) > 0:
-        return None
-    return [letters[letter] for letter in first_with_worth(graph, finer, worth)]
+    return None if len(rings) > 0 else first_with_worth(graph, finer, worth)
 
 
 def growing_ring(field, behaviour):
