@@ -94,10 +94,17 @@ def turns_of(behaviour, many):
     if behaviour is None:
         return free_turns(many)
     nodes = {0: True}
-    found = {}
-    for node, partial, target in behaviour[1]:
+    for node, _, target in behaviour[1]:
         nodes[node] = True
         nodes[target] = True
-        for letter in fitting_indexes(partial):
-            found.setdefault((node, letter), []).append(target)
-    return {start: [sorted(set(found.get((start, at), []))) for at in range(many)] for start in nodes}
+    return {node: turns_from(behaviour, node, many) for node in nodes}
+
+
+def turns_from(behaviour, node, many):
+    """Return the list, by letters, of the ascending lists of the nodes to which an edge from a node leads."""
+    rows = [[] for _ in range(many)]
+    for start, partial, target in behaviour[1]:
+        if start == node:
+            for letter in fitting_indexes(partial):
+                rows[letter].append(target)
+    return [sorted(set(row)) for row in rows]

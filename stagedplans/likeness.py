@@ -28,7 +28,7 @@ def told_from(plan, start):
 
 def are_like(one, other):
     """Tell whether two plans with the same numbers of regions and of signals are alike."""
-    return is_like(told_from(one, first_state(one)), other)
+    return one == other or is_like(told_from(one, first_state(one)), other)
 
 
 def is_like(told, plan):

@@ -77,8 +77,13 @@ def check_plan(plan):
 
 def check_alike_in_numbers(one, other):
     """Raise an error for plans whose numbers of regions or of signals differ."""
-    if len(one[0]) != len(other[0]) or len(one[1]) != len(other[1]):
+    if not are_alike_in_numbers(one, other):
         raise OtherShape()
+
+
+def are_alike_in_numbers(one, other):
+    """Tell whether two plans have as many regions and as many signals."""
+    return len(one[0]) == len(other[0]) and len(one[1]) == len(other[1])
 
 
 def check_same_shape(one, other):

@@ -5,7 +5,7 @@ import unittest
 
 from stagedplans.behaviours import impossible_from, is_behaviour, is_possible, nodes_after
 from stagedplans.errors import InvalidBehaviour, InvalidLetters, InvalidNumber
-from tests.helper import BIG, Case, NOT_INTEGERS, letters_of
+from tests.helper import BIG, Case, NOT_INTEGERS
 from tests.slow import nodes_of, possible_histories, some_behaviours
 from tests.test_states import NOT_LETTERS
 

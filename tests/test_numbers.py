@@ -1,7 +1,6 @@
 """Point [26]: histories counted and numbered."""
 
 import copy
-import itertools
 import random
 import unittest
 

@@ -3,7 +3,6 @@
 import copy
 import itertools
 import math
-import random
 import unittest
 from fractions import Fraction
 

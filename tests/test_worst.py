@@ -12,7 +12,7 @@ from stagedplans.worst import greatest_harm, harm_history, harm_ring, harm_table
 from tests.helper import BIG, Case, NOT_INTEGERS, NOT_PLANS, P, R, at_once, changed, letters_of, some_plans
 from tests.slow import best_worths, changed_tables, first_best, grows_always, judged, some_behaviours, table_of
 from tests.test_behaviours import WRONG_BEHAVIOURS
-from tests.test_states import NOT_LETTERS, TWO, one_signal, two_regions
+from tests.test_states import NOT_LETTERS, one_signal, two_regions
 
 GOOD_ONLY = (1, ((0, (1,), 0),))
 # One region of 10 users; its stage goes on until a good letter.
