@@ -1,6 +1,6 @@
 """Plans and behaviours as objects that never change."""
 
-from stagedplans.behaviours import check_behaviour, check_signal_number, node_rows
+from stagedplans.behaviours import can_walk, check_behaviour, check_signal_number
 from stagedplans.checks import is_index
 from stagedplans.errors import InvalidIndex, NotABehaviour, NotAStagePlan, OtherShape
 from stagedplans.languages import are_same, both_told
@@ -88,7 +88,7 @@ class Behaviour:
 
     def __contains__(self, letters):
         """Tell whether any value is a possible history."""
-        return are_letters(letters, self._number) and len(node_rows(self._told, letters)[-1]) > 0
+        return are_letters(letters, self._number) and can_walk(self._told, letters)
 
     def __eq__(self, other):
         """Tell whether two objects have the same possible histories for as many signals."""

@@ -145,11 +145,6 @@ def is_partial(value, number):
     return True
 
 
-def fits(letter, partial):
-    """Tell whether a letter has the grades of a partial letter that are known."""
-    return all([known is None or grade == known for grade, known in zip(letter, partial)])
-
-
 def fitting_indexes(partial):
     """Return the ascending list of the indexes of the letters that fit a partial letter."""
     indexes = [0]

@@ -1,6 +1,8 @@
 """Point [17]: behaviours."""
 
 import copy
+import random
+import time
 import unittest
 
 from stagedplans.behaviours import impossible_from, is_behaviour, is_possible, nodes_after
@@ -137,6 +139,120 @@ class Walks(Case):
         self.gives_new_lists(nodes_after, 2, TOLD, [])
         self.gives_new_lists(nodes_after, 2, (1, ()), letters)
         self.assertEqual(kept, letters)
+
+
+def slow_rows(told, letters):
+    """Return the lists of nodes behind each beginning, edge by edge and letter by letter."""
+    rows = [{0}]
+    for letter in letters:
+        ends = set()
+        for start, partial, end in told[1]:
+            if start in rows[-1] and all(known is None or known == grade for known, grade in zip(partial, letter)):
+                ends.add(end)
+        rows.append(ends)
+    return [sorted(row) for row in rows]
+
+
+def great_behaviour(source, number, nodes=6, edges=30):
+    return (nodes, tuple(
+        (source.randrange(nodes), tuple(source.choice((None, None, 0, 1, 2)) for _ in range(number)), source.randrange(nodes))
+        for _ in range(edges)
+    ))
+
+
+def possible_letters(source, told, number, many):
+    """Return some possible history of so many letters, or of fewer where no letter is possible any more."""
+    letters, nodes = [], {0}
+    while len(letters) < many:
+        edges = [(partial, end) for start, partial, end in told[1] if start in nodes]
+        if not edges:
+            return letters
+        partial, _ = source.choice(edges)
+        letters.append(tuple(source.randrange(3) if known is None else known for known in partial))
+        nodes = {end for known, end in edges if all(one is None or one == grade for one, grade in zip(known, letters[-1]))}
+    return letters
+
+
+class ManyWalks(Case):
+    def same(self, number, told, letters):
+        rows = slow_rows(told, letters)
+        lengths = [length for length, row in enumerate(rows) if not row]
+        self.assertEqual(rows[-1], nodes_after(number, told, letters), (told, letters))
+        self.assertIs(rows[-1] != [], is_possible(number, told, letters))
+        self.assertEqual(lengths[0] if lengths else None, impossible_from(number, told, letters))
+        return rows[-1] != []
+
+    def test_against_plain_walks(self):
+        source = random.Random(160)
+        found = {True: 0, False: 0}
+        for at in range(1200):
+            number, nodes = source.randint(1, 3), source.randint(1, 6)
+            told = great_behaviour(source, number, nodes, source.randint(0, 30))
+            many = source.choice((0, 1, 2, 3, 4, 5, 6, 7, 8, 10, 12, 20, 40))
+            letters = possible_letters(source, told, number, many)
+            found[self.same(number, told, letters)] += 1
+            other = [tuple(source.randrange(3) for _ in range(number)) for _ in range(many)]
+            found[self.same(number, told, other)] += 1
+        self.assertGreater(min(found.values()), 400)
+
+    def test_impossible_letter_at_any_place(self):
+        source = random.Random(161)
+        for number in (1, 2, 3):
+            for many in (1, 2, 5, 6, 7, 11, 200):
+                # No edge takes a bad first signal.
+                told = great_behaviour(source, number)
+                told = (6, tuple((start, (source.choice((0, 1)), *partial[1:]), end) for start, partial, end in told[1]))
+                letters = possible_letters(source, told, number, many)
+                for at in {0, len(letters) // 2, len(letters) - 1} if letters else ():
+                    wrong = [*letters[:at], (2, *letters[at][1:]), *letters[at + 1:]]
+                    self.same(number, told, wrong)
+                    self.assertEqual(at + 1, impossible_from(number, told, wrong))
+                    self.assertEqual([], nodes_after(number, told, wrong))
+
+    def test_two_hundred_letters_against_plain_walks(self):
+        source = random.Random(162)
+        found = {True: 0, False: 0}
+        for number in (1, 2, 3):
+            for nodes in range(1, 7):
+                for edges in (3, 10, 29, 30):
+                    told = great_behaviour(source, number, nodes, edges)
+                    letters = possible_letters(source, told, number, 200)
+                    found[self.same(number, told, letters)] += len(letters) == 200
+                    found[self.same(number, told, letters + [(2,) * number])] += 1
+        self.assertGreater(found[True], 30)
+
+    def test_all_numbers_of_letters(self):
+        # One walk goes round and round, and others leave it at each node; nodes are far from each other.
+        told = (BIG, ((0, (None, 1), BIG - 1), (BIG - 1, (1, None), 7), (7, (None, None), 0), (7, (2, 2), 7), (0, (None, 1), 7)))
+        letters = [(1, 1), (1, 2), (2, 2), (2, 1)] * 6
+        for many in range(len(letters) + 1):
+            self.same(2, told, letters[:many])
+            for start in range(4):
+                self.same(2, told, letters[start:many])
+
+    def test_edges_told_twice(self):
+        edge = (0, (1, None), 0)
+        for many in (1, 3, 30):
+            told = (3, (edge,) * many + ((0, (None, 1), 2), (0, (1, 1), 1)) * many)
+            for length in (0, 1, 2, 6, 9):
+                self.same(2, told, [(1, 1)] * length)
+                self.same(2, told, [(1, 1)] * length + [(1, 0)])
+
+    def test_thousands_of_questions(self):
+        source = random.Random(163)
+        questions = []
+        while len(questions) < 2000:
+            told = great_behaviour(source, 3)
+            letters = possible_letters(source, told, 3, 10)
+            if len(letters) == 10:
+                questions.append((told, letters))
+        began = time.process_time()
+        for told, letters in questions:
+            is_possible(3, told, letters)
+            nodes_after(3, told, letters)
+            impossible_from(3, told, letters)
+        # Some 0.25 seconds where this was written.
+        self.assertLess(time.process_time() - began, 1.2)
 
 
 class WrongArguments(Case):
