@@ -1,9 +1,9 @@
 """The greatest harm of possible histories, and the certificates of it."""
 
-from stagedplans.behaviours import check_behaviour, turns_of
+from stagedplans.behaviours import check_behaviour, walked
+from stagedplans.harm import harm_along
+from stagedplans.periods import last_state, states_along
 from stagedplans.plans import check_plan
-from stagedplans.searches import nodes_behind
-from stagedplans.signals import letter_index
 from stagedplans.states import check_letters
 from stagedplans.tables import AS_IT_IS, check_table, table_fault
 from stagedplans.walks import greatest_gain, greatest_history, growing_ring, plan_field, worth_table
@@ -33,11 +33,7 @@ def is_harm_ring(plan, history, ring, behaviour=None):
     check_letters(plan, history)
     check_letters(plan, ring)
     check_behaviour(len(plan[1]), behaviour)
-    field = plan_field(plan)
-    start = [letter_index(letter) for letter in history]
-    turn = [letter_index(letter) for letter in ring]
-    turns = turns_of(behaviour, len(field[0]))
-    return is_possible_ring(turns, start, turn) and is_growing_ring(field, start, turn)
+    return is_possible_ring(behaviour, history, ring) and is_growing_ring(plan, history, ring)
 
 
 def harm_table(plan, behaviour=None):
@@ -59,33 +55,25 @@ def check_both(plan, behaviour):
     check_behaviour(len(plan[1]), behaviour)
 
 
-def is_possible_ring(turns, history, ring):
+def is_possible_ring(behaviour, history, ring):
     """Tell whether a history with any number of rings behind it is possible."""
-    nodes = [0]
-    for letter in history:
-        nodes = nodes_behind(turns, nodes, letter)
+    nodes, _ = walked(behaviour, history, [0])
     met = {}
     # What is possible from a set of nodes on does not depend on how often the ring was gone.
     while tuple(nodes) not in met:
         met[tuple(nodes)] = True
-        for letter in ring:
-            nodes = nodes_behind(turns, nodes, letter)
+        nodes, _ = walked(behaviour, ring, nodes)
     return len(nodes) > 0
 
 
-def is_growing_ring(field, history, ring):
+def is_growing_ring(plan, history, ring):
     """Tell whether a ring adds harm behind a history with any number of rings."""
-    _, _, followers, gains = field
-    at = 0
-    for letter in history:
-        at = followers[at][letter]
+    state = last_state(plan, history)
     met = {}
-    while at not in met:
-        met[at] = True
-        harm = 0
-        for letter in ring:
-            harm = harm + gains[at][letter]
-            at = followers[at][letter]
-        if harm == 0:
+    while state not in met:
+        met[state] = True
+        along = states_along(plan, state, ring)
+        if harm_along(plan, along, ring) == 0:
             return False
+        state = along[-1]
     return True

@@ -2,6 +2,7 @@
 
 import copy
 import random
+import time
 import unittest
 
 from stagedplans.behaviours import is_possible
@@ -44,6 +45,22 @@ def big_behaviour(nodes, edges=30):
         (at % nodes, (source.choice((None, None, 0, 2)), source.choice((None, None, 1, 2))), source.randrange(nodes))
         for at in range(edges)
     ))
+
+
+# Two regions with a signal each, two stages, and 288 states.
+MANY_STATES = (
+    ((1000, 7, 3, 100), (10, 3, 0, 0)),
+    ((0, 20, 50, 1), (1, 30, 40, 2)),
+    (
+        ((100, 0), 3, ((0, 1, 2, 3),), (((0, 2, 1, 1), ("back", 0)), ((1, 2, 2, 2), ("drop", 1)))),
+        ((1000, 500), 2, ((1, 1, 1, 1),), (((0, 2, 2, 3), ("stop",)),)),
+    ),
+    1,
+)
+# The same plan with the second region open in the first stage, too.
+RINGED = changed(MANY_STATES, (2, 0, 0), (100, 300))
+# Letters of which most do not end a stage.
+SOFT = ((0, 0), (0, 2), (0, 2), (0, 1), (0, 0), (1, 0), (2, 0), (0, 2), (2, 2))
 
 
 class Examples(Case):
@@ -270,6 +287,63 @@ class Rings(Case):
                 found[due] += 1
                 self.assertIs(due, is_harm_ring(plan, history, ring, told), (plan, history, ring, told))
         self.assertGreater(min(found.values()), 40)
+
+
+class RingsOfGreatPlans(Case):
+    """Plans with so many states that only those along the two lists can be looked at in time."""
+
+    def test_states(self):
+        self.assertEqual(288, len(states(MANY_STATES)))
+
+    def test_rings(self):
+        # A bad second letter adds harm in the first stage, until two of them side by side drop the region.
+        for history, ring, due in (
+            ([], [(0, 2)], False), ([], [(0, 2), (0, 0)], True), ([(0, 2)], [(0, 0), (0, 2)], True), ([], [(1, 0)], False),
+            ([(0, 1)], [(2, 2)], False), ([(2, 0)], [(0, 2), (0, 1)], True), ([(2, 0), (2, 0)], [(0, 2), (0, 1)], False),
+            ([], [], False), ([(0, 2)], [], False), ([], [(0, 0)], False), ([(0, 0)] * 200, [(0, 2), (1, 0), (0, 0)] * 60, True),
+            ([(1, 1), (1, 1), (0, 0)], [(2, 0), (0, 0), (0, 0)], True), ([(1, 1), (1, 1), (0, 0)], [(2, 0), (0, 0)], False),
+        ):
+            with self.subTest(history=history[:3], ring=ring[:3]):
+                self.assertIs(due, is_harm_ring(RINGED, history, ring))
+                self.assertIs(due, grows_always((RINGED,), history, ring, None))
+        for history, ring in (([(0, 1)], [(2, 2)]), ([(1, 1)], [(0, 2)])):
+            self.assertIs(grows_always((MANY_STATES,), history, ring, None), is_harm_ring(MANY_STATES, history, ring))
+
+    def test_behaviours(self):
+        free = ((0, (None, None), 0),)
+        for told, due in (
+            (None, True), ((1, free), True), ((2, ((0, (0, 2), 1), (1, (None, 0), 0))), True), ((2, ((0, (0, 2), 1), (1, (0, 1), 0))), False),
+            # The ring leads to other nodes, and from the last of them on it is not possible.
+            ((5, tuple((at, (None, None), at + 1) for at in range(4))), False),
+            ((5, tuple((at, (None, None), (at + 1) % 5) for at in range(5))), True), ((1, ()), False), ((3, free + ((0, (0, 0), 2),)), True),
+            # One walk ends, and another one goes on.
+            ((4, ((0, (0, 2), 1), (0, (0, 2), 2), (1, (0, 0), 3), (2, (0, 0), 0))), True),
+            ((4, ((0, (0, 2), 1), (0, (0, 2), 2), (1, (0, 0), 3), (2, (0, 1), 0))), False),
+        ):
+            with self.subTest(told):
+                self.assertIs(due, is_harm_ring(RINGED, [], [(0, 2), (0, 0)], told))
+                self.assertIs(due, grows_always((RINGED,), [], [(0, 2), (0, 0)], told))
+
+    def test_against_slow_rings(self):
+        source = random.Random(27)
+        found = {True: 0, False: 0}
+        for plan in (MANY_STATES, RINGED, big_plan()):
+            for told in some_behaviours(28, 6, 2, nodes=4, edges=14):
+                for _ in range(14):
+                    history = [source.choice(SOFT) for _ in range(source.randrange(5))]
+                    ring = [source.choice(SOFT) for _ in range(source.randrange(6))]
+                    due = grows_always((plan,), history, ring, told)
+                    found[due] += 1
+                    self.assertIs(due, is_harm_ring(plan, history, ring, told), (plan, history, ring, told))
+        self.assertGreater(min(found.values()), 15)
+
+    def test_a_thousand_questions(self):
+        began = time.process_time()
+        for at in range(500):
+            is_harm_ring(MANY_STATES, [(0, 1)], [(2, 2)])
+            is_harm_ring(MANY_STATES, [(1, 1)], [(0, 2)])
+        # Some 0.05 seconds where this was written.
+        self.assertLess(time.process_time() - began, 0.5)
 
 
 class TableFaults(Case):
