@@ -137,7 +137,7 @@ def swept(edges, letters, nodes):
     for (node, _, target), bit in zip(edges, bits):
         outs[node] = outs.get(node, 0) | bit
         intos[target] = intos.get(target, 0) | bit
-    ends = [(target, intos[target], outs.get(target, 0)) for target in sorted(intos)]
+    ends = [(target, intos[target], outs.get(target, 0)) for target in sorted(list(intos))]
     known = {}
     behind = {}
     left = sum([outs.get(node, 0) for node in nodes])

@@ -1,10 +1,11 @@
 """Which histories explain the open counts that were seen.
 
 Within this file a state stands as its index in a list of states. The rows are the list, by
-periods, of dicts: each state behind a history that explains what was seen so far leads to a
-tuple of how many such histories there are, and of the last period of the least one of them: the
-state ahead of it and the letter. They stand in the order of these least histories, and the rows
-end with the first empty one.
+periods, of dicts from the states behind all histories that explain what was seen so far to how
+many such histories there are. The states of a row stand in the order of the least histories
+that lead to them; the ways are the list, by periods, of dicts from the states to the last
+period of these: a tuple of the state ahead of it and the letter. Both end with the first row
+that is empty.
 """
 
 from stagedplans.checks import are_integers
@@ -17,13 +18,13 @@ from stagedplans.signals import all_letters
 def explaining(plan, seen):
     """Return the least history that explains what was seen, or None."""
     check_both(plan, seen)
-    _, rows = rows_of(plan, seen)
+    _, rows, ways = rows_of(plan, seen)
     if len(rows[-1]) == 0:
         return None
     state = list(rows[-1])[0]
     history = []
-    for row in rows[:0:-1]:
-        _, state, letter = row[state]
+    for way in ways[::-1]:
+        state, letter = way[state]
         history.append(letter)
     return history[::-1]
 
@@ -31,28 +32,28 @@ def explaining(plan, seen):
 def count_explaining(plan, seen):
     """Return the number of all histories that explain what was seen."""
     check_both(plan, seen)
-    _, rows = rows_of(plan, seen)
-    return sum([many for many, _, _ in rows[-1].values()])
+    _, rows, _ = rows_of(plan, seen)
+    return sum(list(rows[-1].values()))
 
 
 def unexplained(plan, seen):
     """Return the least index up to which no history explains what was seen, or None."""
     check_both(plan, seen)
-    _, rows = rows_of(plan, seen)
+    _, rows, _ = rows_of(plan, seen)
     return None if len(rows[-1]) > 0 else len(rows) - 2
 
 
 def states_seen(plan, seen):
     """Return the ascending list of the states behind all histories that explain what was seen."""
     check_both(plan, seen)
-    listed, rows = rows_of(plan, seen)
+    listed, rows, _ = rows_of(plan, seen)
     return sorted([listed[state] for state in rows[-1]])
 
 
 def next_counts(plan, seen):
     """Return the ascending list of the tuples of counts that can be seen next."""
     check_both(plan, seen)
-    listed, rows = rows_of(plan, seen)
+    listed, rows, _ = rows_of(plan, seen)
     letters = all_letters(len(plan[1]))
     behind = [end for state in rows[-1] for end in next_states(plan, listed[state], letters)]
     return sorted(set(list(counts_by_frame(plan, behind).values())))
@@ -66,15 +67,17 @@ def check_both(plan, seen):
 
 
 def rows_of(plan, seen):
-    """Return the list of the states that are met, and the rows for what was seen."""
+    """Return the list of the states that are met, the rows, and the ways for what was seen."""
     letters = all_letters(len(plan[1]))
     listed = [first_state(plan)]
     places = {listed[0]: 0}
-    rows = [{0: (1, None, None)}]
+    rows = [{0: 1}]
+    ways = []
     known = {}
     for told in seen:
         row = {}
-        for at, (many, _, _) in rows[-1].items():
+        way = {}
+        for at, many in rows[-1].items():
             if (at, told) not in known:
                 ends = []
                 fitting = fitting_periods(plan, listed[at], letters, told)
@@ -85,13 +88,16 @@ def rows_of(plan, seen):
                     ends.append((letter, place))
                 known[(at, told)] = ends
             for letter, place in known[(at, told)]:
-                # A history ahead of this one may lead there, and then it is the least one.
-                before, ahead, last = row.get(place, (0, at, letter))
-                row[place] = (before + many, ahead, last)
+                if place in row:
+                    row[place] = row[place] + many
+                else:
+                    row[place] = many
+                    way[place] = (at, letter)
         rows.append(row)
+        ways.append(way)
         if len(row) == 0:
-            return listed, rows
-    return listed, rows
+            break
+    return listed, rows, ways
 
 
 def fitting_periods(plan, state, letters, told):
