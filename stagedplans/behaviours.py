@@ -126,18 +126,8 @@ def nodes_by(edges, nodes, letter):
 
 
 def swept(edges, letters, nodes):
-    """Return what walked returns, with all edges prepared for many letters.
-
-    Each edge has a bit, so that the edges of some nodes that fit a letter are found at once.
-    """
-    bits = [1 << at for at in range(len(edges))]
-    tables = fitting_bits([partial for _, partial, _ in edges], bits)
-    outs = {}
-    intos = {}
-    for (node, _, target), bit in zip(edges, bits):
-        outs[node] = outs.get(node, 0) | bit
-        intos[target] = intos.get(target, 0) | bit
-    ends = [(target, intos[target], outs.get(target, 0)) for target in sorted(list(intos))]
+    """Return what walked returns, with all edges prepared for many letters."""
+    tables, outs, ends = prepared(edges)
     known = {}
     behind = {}
     left = sum([outs.get(node, 0) for node in nodes])
@@ -157,6 +147,23 @@ def swept(edges, letters, nodes):
         if len(nodes) == 0:
             return nodes, at + 1
     return nodes, len(letters)
+
+
+def prepared(edges):
+    """Return a tuple (tables, outs, ends) with which the edges that fit a letter are found at once.
+
+    Each edge has a bit. The tables tell the edges that fit the grades, as fitting_bits does, and
+    the outs are a dict from nodes to the edges that leave them. The ends are the ascending list
+    of the tuples of each node, the edges that lead to it, and those that leave it.
+    """
+    bits = [1 << at for at in range(len(edges))]
+    outs = {}
+    intos = {}
+    for (node, _, target), bit in zip(edges, bits):
+        outs[node] = outs.get(node, 0) | bit
+        intos[target] = intos.get(target, 0) | bit
+    ends = [(target, intos[target], outs.get(target, 0)) for target in sorted(list(intos))]
+    return fitting_bits([partial for _, partial, _ in edges], bits), outs, ends
 
 
 def fitting_bits(partials, bits):

@@ -1,7 +1,6 @@
 """Which histories are possible for two behaviours, or just for one of them."""
 
-from stagedplans.behaviours import turns_of
-from stagedplans.searches import nodes_behind
+from stagedplans.behaviours import bits_for, prepared
 from stagedplans.signals import all_letters
 
 
@@ -10,8 +9,13 @@ def both_told(number, one, other):
     if one is not None and other is not None:
         return product_of(one, other)
     if one is None and other is None:
-        return (1, ((0, tuple([None for _ in range(number)]), 0),))
+        return free_behaviour(number)
     return other if one is None else one
+
+
+def free_behaviour(number):
+    """Return a behaviour, not None, for which all histories are possible."""
+    return (1, ((0, tuple([None for _ in range(number)]), 0),))
 
 
 def product_of(one, other):
@@ -22,14 +26,15 @@ def product_of(one, other):
     at = 0
     while at < len(pairs):
         node, twin = pairs[at]
+        others = edges_from(other, twin)
         for partial, target in edges_from(one, node):
-            for other_partial, other_target in edges_from(other, twin):
-                if not can_agree(partial, other_partial):
-                    continue
-                place = places.setdefault((target, other_target), len(pairs))
-                if place == len(pairs):
-                    pairs.append((target, other_target))
-                edges[(at, agreed(partial, other_partial), place)] = True
+            for other_partial, other_target in others:
+                common = agreed(partial, other_partial)
+                if common is not None:
+                    place = places.setdefault((target, other_target), len(pairs))
+                    if place == len(pairs):
+                        pairs.append((target, other_target))
+                    edges[(at, common, place)] = True
         at += 1
     return (len(pairs), tuple(list(edges)))
 
@@ -39,42 +44,60 @@ def edges_from(behaviour, node):
     return [(partial, target) for start, partial, target in behaviour[1] if start == node]
 
 
-def can_agree(partial, other):
-    """Tell whether some letter fits two partial letters."""
-    for known, also in zip(partial, other):
-        if known is not None and also is not None and known != also:
-            return False
-    return True
-
-
 def agreed(partial, other):
-    """Return the partial letter that just those letters fit that fit two partial letters."""
-    return tuple([also if known is None else known for known, also in zip(partial, other)])
+    """Return the partial letter that just those letters fit that fit two of them, or None."""
+    common = []
+    for known, also in zip(partial, other):
+        if known is None:
+            common.append(also)
+        elif also is None or also == known:
+            common.append(known)
+        else:
+            return None
+    return tuple(common)
 
 
 def are_same(number, one, other):
     """Tell whether the same histories are possible for two behaviours.
 
-    The nodes at which walks of one history can end are put into one group for both, as Hopcroft
-    and Karp do, so what follows them is looked at once. A history is possible if there are any.
+    The edges that walks of one history can take next are put into one group for both, as
+    Hopcroft and Karp do: what follows two of one group is the same if the rest is.
     """
     if one == other:
         return True
-    many = len(all_letters(number))
-    turns, other_turns = turns_of(one, many), turns_of(other, many)
+    letters = all_letters(number)
+    first, fits, ends = told_edges(number, one, letters)
+    other_first, other_fits, other_ends = told_edges(number, other, letters)
     parents = {}
-    waiting = [((0,), (0,))]
+    waiting = [(first, other_first)]
     while len(waiting) > 0:
-        nodes, others = waiting.pop()
-        if (len(nodes) == 0) != (len(others) == 0):
-            return False
-        root, other_root = root_in(parents, (True, nodes)), root_in(parents, (False, others))
-        if root != other_root:
-            parents[other_root] = root
-            for letter in range(many):
-                behind = tuple(nodes_behind(turns, nodes, letter))
-                waiting.append((behind, tuple(nodes_behind(other_turns, others, letter))))
+        left, right = waiting.pop()
+        root, other_root = root_in(parents, (True, left)), root_in(parents, (False, right))
+        if root == other_root:
+            continue
+        parents[other_root] = root
+        for bits, other_bits in zip(fits, other_fits):
+            met, other_met = left & bits, right & other_bits
+            if (met == 0) != (other_met == 0):
+                return False
+            if met > 0:
+                waiting.append((edges_behind(ends, met), edges_behind(other_ends, other_met)))
     return True
+
+
+def told_edges(number, behaviour, letters):
+    """Return the edges that leave node 0, those that fit each letter, and the ends, as bits."""
+    tables, outs, ends = prepared((free_behaviour(number) if behaviour is None else behaviour)[1])
+    return outs.get(0, 0), [bits_for(tables, letter) for letter in letters], ends
+
+
+def edges_behind(ends, bits):
+    """Return the bits of the edges that leave the nodes to which some edges lead."""
+    behind = 0
+    for _, into, out in ends:
+        if bits & into > 0:
+            behind = behind | out
+    return behind
 
 
 def root_in(parents, value):
